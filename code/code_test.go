@@ -8,7 +8,7 @@ import (
 	"stolon/api"
 )
 
-// TestFirstCallsTogether: whichever call is the first one, and however many are, each has the whole table (R4).
+// TestFirstCallsTogether: whichever call is the first one, and however many are, each answers alike (R4).
 func TestFirstCallsTogether(t *testing.T) {
 	var all sync.WaitGroup
 	start := make(chan bool)
@@ -16,8 +16,8 @@ func TestFirstCallsTogether(t *testing.T) {
 		all.Go(func() {
 			<-start
 			if i%2 == 0 {
-				if v := Value(255); v != 31744 {
-					t.Errorf("Value(255): %d", v)
+				if !Exact(31744) {
+					t.Error("Exact(31744): false")
 				}
 			} else if c := Near(31744); c != 255 {
 				t.Errorf("Near(31744): %d", c)
@@ -26,6 +26,45 @@ func TestFirstCallsTogether(t *testing.T) {
 	}
 	close(start)
 	all.Wait()
+}
+
+// TestTable: once a call has looked there, the table has each code's value, as Value tells it.
+func TestTable(t *testing.T) {
+	Near(0)
+	for c, n := range values {
+		if int(n) != Value(byte(c)) {
+			t.Errorf("%d: %d, not %d", c, n, Value(byte(c)))
+		}
+	}
+}
+
+// TestAnswersByFunction: what is answered doesn't hang on the table, whatever stands there (R4).
+func TestAnswersByFunction(t *testing.T) {
+	Near(0)
+	table := values
+	defer func() { values = table }()
+	var least, most [codes]uint16
+	for c := range most {
+		most[c] = math.MaxUint16
+	}
+	for _, values = range [][codes]uint16{least, most} {
+		for _, x := range known {
+			if n := Value(x.c); n != x.n {
+				t.Errorf("Value(%d): %d, not %d", x.c, n, x.n)
+			}
+			if c, e := Code(x.n); c != x.c || e != api.OK || !Exact(x.n) {
+				t.Errorf("Code(%d): %d %d, not %d", x.n, c, e, x.c)
+			}
+		}
+		for _, x := range between {
+			if c := Near(x.n); c != x.c {
+				t.Errorf("Near(%d): %d, not %d", x.n, c, x.c)
+			}
+			if Exact(x.n) {
+				t.Errorf("Exact(%d): true", x.n)
+			}
+		}
+	}
 }
 
 // known are codes with their values, worked out by hand: the edges of those that are their own values, and of each e, and others.
